@@ -1,0 +1,1 @@
+"""Pagefolk: a document that many hands write apart."""

@@ -1,0 +1,188 @@
+"""The form of the package's files: what of the language's rules L1 to L28 can be seen without running them."""
+
+import ast
+import builtins
+import pathlib
+import re
+import unittest
+
+PACKAGE = pathlib.Path(__file__).resolve().parent.parent / "pagefolk"
+
+OWN = set("""len range enumerate zip min max sum abs sorted reversed int str bool list tuple dict set frozenset isinstance
+ord repr any all divmod Exception ValueError TypeError KeyError IndexError LookupError ZeroDivisionError
+ArithmeticError OverflowError RuntimeError NotImplementedError AttributeError StopIteration""".split())
+METHODS = set("""append clear copy count endswith extend find get index insert isalnum isalpha isdigit islower isspace
+isupper items join keys ljust lower lstrip partition pop remove replace reverse rfind rjust rpartition rsplit rstrip
+setdefault split splitlines startswith strip update upper values zfill bit_length""".split())
+SPECIAL = {"__init__", "__eq__", "__repr__", "__str__", "__len__"}
+UNUSED = set("""register mro elements open input version_info with_traceback add_note format format_map attrgetter
+breakpoint builtins compile copyright credits delattr dir eval exec exit gc getattr globals hasattr help id importlib
+license locals methodcaller os quit setattr super type vars sys chr print""".split())
+UNSPOKEN = re.compile(r"\b(type|typing|typing_extensions|enum|Enum|IntEnum|StrEnum|Flag|IntFlag|Generic|Protocol|ABC"
+                      r"|ABCMeta|namedtuple|NamedTuple|TypedDict|TYPE_CHECKING|abstractmethod)\b"
+                      r"|dataclass|overload|contextmanager")
+NODES = set("""Module FunctionDef ClassDef arguments arg ImportFrom alias Expr Assign AugAssign If While For Return Break
+Continue Pass Raise Try ExceptHandler Constant Name Load Store Attribute Subscript Slice List Tuple Dict Set BinOp
+UnaryOp BoolOp Compare IfExp Call keyword ListComp comprehension JoinedStr FormattedValue Lambda And Or Not Invert USub
+UAdd Add Sub Mult FloorDiv Mod Pow BitAnd BitOr BitXor LShift RShift Eq NotEq Lt LtE Gt GtE Is IsNot In
+NotIn""".split())
+PYTHONS_VALUES = (str, int, list, tuple, dict, set, bytes)
+
+
+def is_plain_value(node):
+    if isinstance(node, (ast.List, ast.Tuple)):
+        return all(is_plain_value(one) for one in node.elts)
+    if isinstance(node, ast.Dict):
+        return all(is_plain_value(one) for one in node.keys + node.values)
+    return isinstance(node, (ast.Constant, ast.Name))
+
+
+def is_docstring(node):
+    return isinstance(node, ast.Expr) and isinstance(node.value, ast.Constant) and isinstance(node.value.value, str)
+
+
+def faults_of_text(text):
+    rows = text.split("\n")
+    if len(rows) - 1 > 400:
+        yield 400, "L10 a long file"
+    for at, row in enumerate(rows, start=1):
+        if len(row) > 120:
+            yield at, "L10 a long line"
+        if not all(" " <= sign <= "~" for sign in row):
+            yield at, "L14 a sign"
+        if UNSPOKEN.search(row):
+            yield at, "L17 a word"
+
+
+def faults_of_top(tree):
+    for node in tree.body:
+        if isinstance(node, ast.Assign):
+            if len(node.targets) != 1 or not isinstance(node.targets[0], ast.Name) or not is_plain_value(node.value):
+                yield node.lineno, "L3 the top of a file"
+        elif not isinstance(node, (ast.ImportFrom, ast.FunctionDef, ast.ClassDef)) and node is not tree.body[0]:
+            yield node.lineno, "L3 the top of a file"
+    for node in ast.walk(tree):
+        if isinstance(node, ast.ImportFrom):
+            names = [alias.name for alias in node.names]
+            if node not in tree.body or node.level or not node.module.startswith("pagefolk.") or "*" in names:
+                yield node.lineno, "L2 an import"
+
+
+def faults_of_def(node):
+    if isinstance(node, ast.FunctionDef):
+        if node.decorator_list or node.args.vararg or node.args.kwarg or node.args.kwonlyargs or node.args.posonlyargs:
+            yield node.lineno, "L4 a def"
+        if node.end_lineno - node.lineno >= 40:
+            yield node.lineno, "L10 a long def"
+    if isinstance(node, ast.ClassDef):
+        inner = [one for one in node.body if not is_docstring(one) and not isinstance(one, ast.FunctionDef)]
+        if inner or node.decorator_list or len(node.bases) > 1 or node.keywords:
+            yield node.lineno, "L5 a class"
+
+
+def names_in(node):
+    if isinstance(node, (ast.FunctionDef, ast.ClassDef, ast.alias)):
+        return [node.name]
+    if isinstance(node, ast.Name):
+        return [node.id]
+    if isinstance(node, ast.arg):
+        return [node.arg]
+    return [node.attr] if isinstance(node, ast.Attribute) else []
+
+
+def faults_of_names(node):
+    for name in names_in(node):
+        at = getattr(node, "lineno", 0)
+        if name.startswith("_") and name not in SPECIAL:
+            yield at, "L12 a name"
+        if name in UNUSED:
+            yield at, "L17 a name"
+        bound = not isinstance(node, (ast.Name, ast.Attribute)) or isinstance(node.ctx, ast.Store)
+        of_python = name in vars(builtins) and not isinstance(node, (ast.Attribute, ast.FunctionDef))
+        if of_python and (bound or name not in OWN):
+            yield at, "L8 a name of Python's own"
+    if isinstance(node, ast.Attribute) and isinstance(node.ctx, ast.Load):
+        if node.attr not in METHODS | SPECIAL and any(hasattr(kind, node.attr) for kind in PYTHONS_VALUES):
+            yield node.lineno, "L25 a method"
+
+
+def faults_of_values(node):
+    if type(node).__name__ not in NODES:
+        yield getattr(node, "lineno", 0), "L6, L7 " + type(node).__name__
+    if isinstance(node, ast.Constant) and isinstance(node.value, (float, bytes, complex)):
+        yield node.lineno, "L7 a value"
+    if isinstance(node, ast.Constant) and isinstance(node.value, str) and "%" in node.value:
+        yield node.lineno, "L27 a text"
+    if isinstance(node, ast.Assign) and (len(node.targets) != 1 or isinstance(node.targets[0], ast.Tuple)):
+        yield node.lineno, "L6 an assignment"
+    if isinstance(node, (ast.For, ast.While)) and node.orelse:
+        yield node.lineno, "L6 a loop"
+    if isinstance(node, ast.ListComp) and (len(node.generators) > 1 or len(node.generators[0].ifs) > 1):
+        yield node.lineno, "L7 a comprehension"
+    if isinstance(node, ast.Compare):
+        for word, other in zip(node.ops, node.comparators):
+            plain = isinstance(other, ast.Constant) and other.value in (None, True, False)
+            if isinstance(word, (ast.Is, ast.IsNot)) and not plain:
+                yield node.lineno, "L20 is"
+
+
+def faults_of_sets(tree):
+    beside = []
+    for node in ast.walk(tree):
+        if isinstance(node, ast.Compare):
+            beside.extend([node.left] + node.comparators)
+        if isinstance(node, ast.Call) and isinstance(node.func, ast.Name) and node.func.id in ("len", "sorted"):
+            beside.extend(node.args)
+        if isinstance(node, ast.BinOp) and node in beside:
+            beside.extend([node.left, node.right])
+    for node in ast.walk(tree):
+        made = isinstance(node, ast.Call) and isinstance(node.func, ast.Name) and node.func.id in ("set", "frozenset")
+        if (made or isinstance(node, ast.Set)) and node not in beside:
+            yield node.lineno, "L24 a set"
+
+
+def faults_of(text):
+    tree = ast.parse(text)
+    faults = list(faults_of_text(text)) + list(faults_of_top(tree)) + list(faults_of_sets(tree))
+    for node in ast.walk(tree):
+        faults.extend(list(faults_of_def(node)) + list(faults_of_names(node)) + list(faults_of_values(node)))
+    return faults
+
+
+def methods_and_values(trees):
+    methods, values = set(), set()
+    for tree in trees:
+        for node in ast.walk(tree):
+            if isinstance(node, ast.ClassDef):
+                methods.update([one.name for one in node.body if isinstance(one, ast.FunctionDef)])
+            if isinstance(node, ast.Attribute) and isinstance(node.ctx, ast.Store):
+                values.add(node.attr)
+    return methods, values
+
+
+class Language(unittest.TestCase):
+    def files(self):
+        return sorted(path for path in PACKAGE.rglob("*") if path.is_file() and "__pycache__" not in path.parts)
+
+    def test_the_files_keep_to_the_rules(self):
+        self.assertTrue((PACKAGE / "__init__.py").is_file())
+        for path in self.files():
+            self.assertRegex(path.name, r"^([a-z][a-z0-9_]*|__init__|__main__)\.py$")
+            self.assertEqual(faults_of(path.read_text(encoding="utf-8")), [], path.name)
+
+    def test_no_name_is_a_method_and_a_value(self):
+        methods, values = methods_and_values([ast.parse(path.read_text(encoding="utf-8")) for path in self.files()])
+        self.assertEqual(methods & values, set())
+
+    def test_the_rules_are_looked_at(self):
+        for text in ("import os\n", "from pagefolk import sets\n", "from .sets import Folk\n", "x = 1 + 1\n", "x = 0.5\n",
+                     "def f(*a):\n    return a\n", "def f(x):\n    return x / 2\n", "def f(x):\n    del x\n",
+                     "class A:\n    x = 1\n", "def f(x):\n    return {y for y in x}\n", "def f(x):\n    return set(x)\n",
+                     "def f(x):\n    x.sort()\n", "def f(x):\n    a, b = x\n", "def f(x):\n    return x is f\n",
+                     "def f(x):\n    return map(f, x)\n", "def f(id):\n    return id\n", "# a type\n", "x = '\u00e4'\n",
+                     "def f(x):\n    return x._y\n", "x = 1\t\n", "def f():\n" + "    f()\n" * 40, "#" * 121 + "\n"):
+            self.assertNotEqual(faults_of(text), [], text)
+
+
+if __name__ == "__main__":
+    unittest.main()
