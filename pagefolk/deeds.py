@@ -4,6 +4,7 @@ Whatever is asked of may be anything at all, so each def looks at the kind of
 a thing before it compares it: True equals 1, and other things may equal texts.
 """
 
+MAIN = ("", 0)
 MOST_NUMBER = 1000000
 MOST_LETTERS = 8
 MOST_SIGNS = 12

@@ -72,6 +72,8 @@ class Folk:
             check_past(self.hands, self.told, deed)
         self.heights = heights_of(self.hands, self.told)
         self.sorted_names = sorted(list(self.told), key=self.key)
+        # Which of its deeds are good is judged once, when it is first asked for, and kept here.
+        self.kept_book = None
 
     def roll(self):
         return list(self.hands)

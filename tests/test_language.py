@@ -141,9 +141,108 @@ def faults_of_sets(tree):
             yield node.lineno, "L24 a set"
 
 
+def bound_at_top(tree):
+    """The names that a file defines, and those that it draws from others."""
+    defined, drawn = [], []
+    for node in tree.body:
+        if isinstance(node, (ast.FunctionDef, ast.ClassDef)):
+            defined.append(node.name)
+        elif isinstance(node, ast.Assign):
+            defined.append(node.targets[0].id)
+        elif isinstance(node, ast.ImportFrom):
+            drawn.extend([alias.asname or alias.name for alias in node.names])
+    return defined, drawn
+
+
+def faults_of_bound(tree):
+    defined, drawn = bound_at_top(tree)
+    for name in set(defined + drawn):
+        if (defined + drawn).count(name) > 1:
+            yield 0, "L15 bound twice: " + name
+    classes = [node.name for node in tree.body if isinstance(node, ast.ClassDef)]
+    used = [node.id for node in ast.walk(tree) if isinstance(node, ast.Name) and isinstance(node.ctx, ast.Load)]
+    for name in drawn:
+        if name not in used:
+            yield 0, "an import that is not used: " + name
+    for node in ast.walk(tree):
+        local = isinstance(node, ast.Name) and isinstance(node.ctx, ast.Store) and node.id
+        if (local or isinstance(node, ast.arg) and node.arg) in drawn + classes:
+            yield node.lineno, "L15 a local or parameter like an import or a class"
+
+
+def is_walked(call):
+    if isinstance(call.func, ast.Name):
+        return call.func.id in ("zip", "enumerate", "reversed", "range")
+    return isinstance(call.func, ast.Attribute) and call.func.attr in ("items", "keys", "values")
+
+
+def faults_of_walks(tree):
+    """L23, and L22's keywords."""
+    walked = []
+    for node in ast.walk(tree):
+        if isinstance(node, (ast.For, ast.comprehension)):
+            walked.append(node.iter)
+        if isinstance(node, ast.Call) and isinstance(node.func, ast.Name):
+            if node.func.id in ("list", "tuple", "dict", "sorted", "sum", "any", "all", "enumerate", "zip", "min", "max"):
+                walked.extend(node.args)
+    for node in ast.walk(tree):
+        if isinstance(node, ast.Call) and is_walked(node) and node not in walked:
+            yield node.lineno, "L23 not walked at once"
+        if isinstance(node, ast.Call) and isinstance(node.func, ast.Name) and node.func.id in OWN:
+            allowed = {"sorted": ("key", "reverse"), "min": ("key", "default"), "max": ("key", "default"),
+                       "sum": ("start",), "enumerate": ("start",), "zip": ("strict",)}.get(node.func.id, ())
+            if any(keyword.arg not in allowed for keyword in node.keywords):
+                yield node.lineno, "L22 a keyword"
+
+
+CHANGES = ("append", "clear", "extend", "insert", "pop", "remove", "reverse", "setdefault", "update")
+
+
+def faults_of_changes(tree):
+    """L15 what a file's top keeps is not changed; L23 what a loop walks is not changed in it."""
+    tops = [node.targets[0].id for node in tree.body if isinstance(node, ast.Assign)]
+    for loop in ast.walk(tree):
+        if not isinstance(loop, (ast.For, ast.Module)):
+            continue
+        held = tops if isinstance(loop, ast.Module) else [ast.dump(loop.iter)]
+        for node in ast.walk(loop):
+            changed = None
+            if isinstance(node, ast.Call) and isinstance(node.func, ast.Attribute) and node.func.attr in CHANGES:
+                changed = node.func.value
+            if isinstance(node, ast.Subscript) and isinstance(node.ctx, ast.Store):
+                changed = node.value
+            if changed is not None and (ast.dump(changed) in held or isinstance(changed, ast.Name) and changed.id in held):
+                yield node.lineno, "L15, L23 changed"
+
+
+def faults_of_errors(tree):
+    """L19: what is taken and how errors are made."""
+    for node in ast.walk(tree):
+        if isinstance(node, ast.ExceptHandler):
+            if not isinstance(node.type, ast.Name) or node.type.id in ("Exception", "TypeError", "ValueError", "IndexError",
+                                                                       "LookupError", "ArithmeticError"):
+                yield node.lineno, "L19 an error taken"
+        if isinstance(node, ast.Raise) and not isinstance(node.exc, ast.Call):
+            yield node.lineno, "L19 an error raised"
+
+
+def draws(trees):
+    """A dict from the files to those that each draws from; trees is a dict from the files to their trees."""
+    drawn = {}
+    for file, tree in trees.items():
+        drawn[file] = [node.module.split(".")[1] for node in tree.body if isinstance(node, ast.ImportFrom)]
+    return drawn
+
+
+def comes_round(drawn, file, way=()):
+    return file in way or any(comes_round(drawn, other, way + (file,)) for other in drawn[file])
+
+
 def faults_of(text):
     tree = ast.parse(text)
-    faults = list(faults_of_text(text)) + list(faults_of_top(tree)) + list(faults_of_sets(tree))
+    faults = list(faults_of_text(text))
+    for look in (faults_of_top, faults_of_sets, faults_of_bound, faults_of_walks, faults_of_changes, faults_of_errors):
+        faults.extend(list(look(tree)))
     for node in ast.walk(tree):
         faults.extend(list(faults_of_def(node)) + list(faults_of_names(node)) + list(faults_of_values(node)))
     return faults
@@ -174,12 +273,28 @@ class Language(unittest.TestCase):
         methods, values = methods_and_values([ast.parse(path.read_text(encoding="utf-8")) for path in self.files()])
         self.assertEqual(methods & values, set())
 
+    def test_names_are_drawn_from_the_files_that_define_them(self):
+        trees = dict([(path.stem, ast.parse(path.read_text(encoding="utf-8"))) for path in self.files()])
+        drawn = draws(trees)
+        for file, tree in trees.items():
+            self.assertFalse(comes_round(drawn, file), file)
+            for node in tree.body:
+                if isinstance(node, ast.ImportFrom):
+                    for alias in node.names:
+                        self.assertIn(alias.name, bound_at_top(trees[node.module.split(".")[1]])[0], file)
+
     def test_the_rules_are_looked_at(self):
         for text in ("import os\n", "from pagefolk import sets\n", "from .sets import Folk\n", "x = 1 + 1\n", "x = 0.5\n",
                      "def f(*a):\n    return a\n", "def f(x):\n    return x / 2\n", "def f(x):\n    del x\n",
                      "class A:\n    x = 1\n", "def f(x):\n    return {y for y in x}\n", "def f(x):\n    return set(x)\n",
                      "def f(x):\n    x.sort()\n", "def f(x):\n    a, b = x\n", "def f(x):\n    return x is f\n",
                      "def f(x):\n    return map(f, x)\n", "def f(id):\n    return id\n", "# a type\n", "x = '\u00e4'\n",
+                     "from pagefolk.sets import Folk\n", "def f(x):\n    return x\ndef f(x):\n    return x\n",
+                     "from pagefolk.sets import Folk\ndef f(Folk):\n    return Folk\n", "class A:\n    pass\ndef f(A):\n    f()\n",
+                     "def f(x):\n    y = zip(x, x)\n", "def f(x):\n    y = x.items()\n", "def f(x):\n    return int(x, base=2)\n",
+                     "X = []\ndef f(x):\n    X.append(x)\n", "def f(x):\n    for y in x:\n        x.append(y)\n",
+                     "X = {}\ndef f(x):\n    X[x] = x\n", "def f(x):\n    raise x\n",
+                     "def f(x):\n    try:\n        f(x)\n    except ValueError:\n        pass\n",
                      "def f(x):\n    return x._y\n", "x = 1\t\n", "def f():\n" + "    f()\n" * 40, "#" * 121 + "\n"):
             self.assertNotEqual(faults_of(text), [], text)
 
