@@ -146,6 +146,39 @@ def some_deeds(chance, roll, many, kinds=KINDS, branches=BRANCHES, founded=True)
     return maker.deeds()
 
 
+def settle(maker):
+    """Words on branches are said, mostly, and all hear all, so that there is something to pour."""
+    chance = maker.chance
+    for branch in maker.own_branches:
+        if chance.random() < 0.7:
+            maker.does(branch[0], (chance.choice(("bring", "drop")), branch[1]))
+    for turn in range(chance.choice((2, 3))):
+        maker.all_hear()
+        for hand in maker.roll:
+            if chance.random() < 0.95:
+                maker.does(hand, ("nothing",))
+    if chance.random() < 0.8:
+        maker.all_hear()
+
+
+def some_poured(chance, roll, greatest, rounds=2, kinds=KINDS):
+    """A maker, and the names of its pours; greatest tells the counts that a hand pours, of the deeds that it has heard."""
+    maker = Maker(chance, roll, kinds)
+    maker.founded()
+    pours = []
+    for turn in range(rounds):
+        for step in range(chance.randint(3, 14)):
+            maker.step()
+        settle(maker)
+        hand = chance.choice(roll)
+        counts = greatest(maker.past(hand), hand)
+        if counts is not None:
+            pours.append(maker.does(hand, ("pour", counts))[:2])
+    for step in range(chance.randint(0, 14)):
+        maker.step()
+    return maker, pours
+
+
 def told(roll, text):
     """A list of deeds, told in rows.
 

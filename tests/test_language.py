@@ -215,6 +215,28 @@ def faults_of_changes(tree):
                 yield node.lineno, "L15, L23 changed"
 
 
+def is_read_only(parents, node):
+    """Whether a list or dict of the file's top is read where it stands, or copied."""
+    above = parents[node]
+    if isinstance(above, ast.Call) and isinstance(above.func, ast.Name):
+        return above.func.id in ("list", "dict", "len", "sorted", "tuple", "sum", "min", "max", "any", "all")
+    if isinstance(above, ast.Attribute):
+        return above.attr in ("get", "items", "keys", "values", "index", "count", "copy")
+    return (isinstance(above, ast.Subscript) and above.value is node or isinstance(above, ast.Compare)
+            or isinstance(above, (ast.For, ast.comprehension)) and above.iter is node)
+
+
+def faults_of_tops(tree):
+    """L15: a list or dict of a file's top is only read."""
+    kept = [node.targets[0].id for node in tree.body
+            if isinstance(node, ast.Assign) and isinstance(node.value, (ast.List, ast.Dict))]
+    parents = dict([(child, node) for node in ast.walk(tree) for child in ast.iter_child_nodes(node)])
+    for node in ast.walk(tree):
+        if isinstance(node, ast.Name) and node.id in kept and isinstance(node.ctx, ast.Load):
+            if not is_read_only(parents, node):
+                yield node.lineno, "L15 handed on"
+
+
 def faults_of_errors(tree):
     """L19: what is taken and how errors are made."""
     for node in ast.walk(tree):
@@ -241,7 +263,8 @@ def comes_round(drawn, file, way=()):
 def faults_of(text):
     tree = ast.parse(text)
     faults = list(faults_of_text(text))
-    for look in (faults_of_top, faults_of_sets, faults_of_bound, faults_of_walks, faults_of_changes, faults_of_errors):
+    for look in (faults_of_top, faults_of_sets, faults_of_bound, faults_of_walks, faults_of_changes, faults_of_errors,
+                 faults_of_tops):
         faults.extend(list(look(tree)))
     for node in ast.walk(tree):
         faults.extend(list(faults_of_def(node)) + list(faults_of_names(node)) + list(faults_of_values(node)))
@@ -293,7 +316,8 @@ class Language(unittest.TestCase):
                      "from pagefolk.sets import Folk\ndef f(Folk):\n    return Folk\n", "class A:\n    pass\ndef f(A):\n    f()\n",
                      "def f(x):\n    y = zip(x, x)\n", "def f(x):\n    y = x.items()\n", "def f(x):\n    return int(x, base=2)\n",
                      "X = []\ndef f(x):\n    X.append(x)\n", "def f(x):\n    for y in x:\n        x.append(y)\n",
-                     "X = {}\ndef f(x):\n    X[x] = x\n", "def f(x):\n    raise x\n",
+                     "X = {}\ndef f(x):\n    X[x] = x\n",
+                     "X = []\ndef f(x):\n    return X\n", "X = {}\ndef f(x):\n    f(X)\n", "def f(x):\n    raise x\n",
                      "def f(x):\n    try:\n        f(x)\n    except ValueError:\n        pass\n",
                      "def f(x):\n    return x._y\n", "x = 1\t\n", "def f():\n" + "    f()\n" * 40, "#" * 121 + "\n"):
             self.assertNotEqual(faults_of(text), [], text)
