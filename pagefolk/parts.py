@@ -78,7 +78,7 @@ def stands_in(facts):
 def shown_among(facts, stands):
     """A dict of the parts that are shown."""
     cut = dict([(fact[0], True) for fact in facts["cuts"]])
-    left = dict([(part, outer) for part, outer in stands.items() if outer is not None and part not in cut])
+    left = dict([(part, outer) for part, outer in stands.items() if part not in cut])
     reaching = reaching_main(left)
     return dict([(part, True) for part, comes in reaching.items() if comes])
 

@@ -78,7 +78,9 @@ class Rows(Told):
     def test_mark_and_note(self):
         self.says(desk_with("ann put . 0 abc"), ("ann mark . 0 1 b on", "2"), ("ann note . 2 2 why", "3"),
                   ("ann shows", "part .\ntext abc\nmark b on 0 1\nnote why 2"), ("ann mark . 1 2 b -", "4"),
-                  ("ann shows", "part .\ntext abc\nmark b on 0 0\nnote why 2"))
+                  ("ann shows", "part .\ntext abc\nmark b on 0 0\nnote why 2"), ("ann note . 0 1 no", "5"),
+                  ("ann out . 0 1", "6"), ("ann shows", "part .\ntext bc\nnote why 1\nnote no 0"), ("ann out . 0 1", "7"),
+                  ("ann shows", "part .\ntext c\nnote why 0\nnote no loose"))
 
     def test_does(self):
         self.says(Desk(ROLL), ("ann does nothing", "1"), ("ann does part .", "2"), ("ann does line ann.2 row -", "3"),

@@ -244,6 +244,8 @@ class MarksAndNotes(Refusing):
             self.refused(NoDeed, ann, lambda: ann.mark(MAIN, 0, 0, "b", word))
             self.refused(NoDeed, ann, lambda: ann.note(MAIN, 0, 0, word))
             self.refused(NoDeed, ann, lambda: ann.note(MAIN, 9, 0, word))
+            self.refused(NoDeed, ann, lambda: ann.mark(MAIN, 9, 0, word, "on"))
+            self.refused(NoDeed, ann, lambda: ann.mark(MAIN, 9, 0, "b", word))
 
     def test_no_leave(self):
         ann, bob = two_hands("ab", "read")

@@ -137,19 +137,21 @@ class Keepsakes(unittest.TestCase):
         for other in (("ann", 1), ("ann", 99), ("bob", 1), ("bob", 7)):
             with self.assertRaises(NoThing):
                 keepsake_of(folk, other)
-        folk, name = poured("ann nothing", (0, 0))
-        with self.assertRaises(NoThing):
-            keepsake_of(folk, name)
+        for counts in ((0, 0), (9, 9), (3, 2), (2, 0)):
+            folk, name = poured("ann nothing\nbob nothing", counts)
+            with self.assertRaises(NoThing):
+                keepsake_of(folk, name)
 
     def test_what_is_told_is_the_asker_s_own(self):
         folk, name = poured("ann put . - a\nann line . row -\nann part .", (3, 0))
-        kept = keepsake_of(folk, name)
+        kept = copy.deepcopy(keepsake_of(folk, name))
         other = keepsake_of(folk, name)
         other["rows"][MAIN].clear()
         other["lines"].clear()
         other["roll"].append("x")
         other["parts"].append("x")
         self.assertEqual(keepsake_of(folk, name), kept)
+        self.assertEqual(folk.roll(), ROLL)
 
 
 def beyond(roll, deeds, counts):
@@ -181,6 +183,11 @@ class Begun(unittest.TestCase):
                       (MAIN, "row", n(10), n(11), (0, 1), True)],
             "cells": [(MAIN, n(10), n(12), "up", (0, 0))],
             "leaves": [(MAIN, "bob", "read", True, (0, 0))]})
+
+    def test_lines_by_rising_keys(self):
+        lines = self.facts("ann line . row -\nann line . column -\nann line . row ann.1\nann line . column ann.2", (4, 0))["lines"]
+        self.assertEqual([(line[2], line[3], line[4]) for line in lines], [
+            (n(2), None, (0, 0)), (n(1), None, (0, 0)), (n(4), n(2), (0, 1)), (n(3), n(1), (0, 1))])
 
     def test_deeds_beyond(self):
         text = ("ann part .\nann put . - a b\nann line . row -\nann line . column -\nann cell . ann.3 ann.4 x\nann leave . bob write "

@@ -46,6 +46,14 @@ class Chains(unittest.TestCase):
         chain = birth_chain(births, ("ann", 2000))
         self.assertEqual(chain, [("ann", n) for n in range(2000, 0, -1)] + [MAIN])
 
+    def test_births_that_no_set_brings(self):
+        """They may come round, or lack a part: what is asked is answered still."""
+        turned = [(ONE, TWO), (TWO, ONE)]
+        self.assertEqual(birth_chain(turned, ONE)[:2], [ONE, TWO])
+        self.assertIs(has_leave(ROLL, turned, [(TWO, "bob", "read", True, (1, 0))], "bob", ONE, "read"), True)
+        self.assertIs(has_leave(ROLL, turned, [], "bob", ONE, "read"), False)
+        self.assertEqual(birth_chain([], ONE), [ONE])
+
     def test_what_is_handed_in_stays(self):
         births = list(BIRTHS)
         birth_chain(births, THREE).append("x")

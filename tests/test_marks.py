@@ -72,6 +72,11 @@ class Covered(unittest.TestCase):
         self.assertEqual(covered(some, MAIN, behind(s(1)), ahead(s(3))), [s(0, 2), s(2), s(0, 3)])
         self.assertEqual(covered(some, MAIN, ahead(s(0)), behind(s(0))), [s(0)])
 
+    def test_signs_of_no_row(self):
+        some = facts(ROW)
+        self.assertEqual(covered(some, MAIN, ahead(s(0, 9)), behind(s(2))), [])
+        self.assertEqual(covered(some, ("ann", 9), ahead(s(0)), behind(s(2))), [])
+
     def test_another_part(self):
         some = facts("ann part .\nann put ann.1 - a b\nann put . - c")
         self.assertEqual(covered(some, ("ann", 1), ahead(s(0, 2)), None), [s(0, 2), s(1, 2)])

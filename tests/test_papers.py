@@ -111,7 +111,8 @@ class Papers(unittest.TestCase):
         self.paper(text, s(4), ("cut", [n(3), n(2)], n(5)))
         self.wrong(text, s(4), ("cut", [n(3), n(2)], n(7)), ("cut", [n(3)], n(5)), ("cut", [], n(5)), ("cut", [n(2)], n(5)),
                    ("cut", [n(3), n(2), n(1)], n(5)), ("cut", [n(3), n(2)], n(1)), ("shown", [n(3), n(2), n(1)], []),
-                   ("cut", [n(3), n(2)]), ("cut", (n(3), n(2)), n(5)), ("cut", [n(3), n(2)], s(5)), ("cut", None, n(5)))
+                   ("cut", [n(3), n(2)]), ("cut", [n(3), n(2)], list(n(5))),
+                   ("cut", [n(3), n(2)], ("ann", 5.0)), ("cut", [n(3), n(2)], {}), ("cut", (n(3), n(2)), n(5)), ("cut", [n(3), n(2)], s(5)), ("cut", None, n(5)))
         self.paper(text + "\nann back 5", s(4), ("shown", [n(3), n(2), n(1)], []))
         self.wrong(text + "\nann back 5", s(4), ("cut", [n(3), n(2)], n(5)))
         middle = "ann part .\nann part ann.1\nann put ann.2 - a\nann cut ann.2"
@@ -132,6 +133,12 @@ class Papers(unittest.TestCase):
                    ("lost", (n(3), n(2))), ("shown", [n(3), n(2)], []), ("shown", [n(3), n(2), n(1)], []), ("lost", None))
         self.paper("ann part .\nann put ann.1 - a\nann back 1", s(2), ("lost", []))
         self.paper(text + "\nann move ann.3 .", s(4), ("shown", [n(6)], []))
+
+    def test_lost_though_it_was_moved(self):
+        text = "ann part .\nann part .\nann move ann.1 ann.2\nann put ann.1 - a\nann part ann.1\nann put ann.5 - b\nann back 1"
+        self.paper(text, s(4), ("lost", []))
+        self.paper(text, s(6), ("lost", [n(5)]))
+        self.wrong(text, s(4), ("shown", [n(3), n(2)], []), ("lost", [n(3)]), ("lost", [n(3), n(2)]))
 
     def test_never_lost_in_the_main_part(self):
         self.wrong("ann put . - a", s(1), ("lost", []))
@@ -185,6 +192,12 @@ ann mark . ann.1.0> ann.1.1< z odd
                 self.assertEqual(paper_for(folk, s(1, i)), ("shown", [], marks))
                 self.assertIs(is_right(folk, s(1, i), ("shown", [], marks)), True)
                 self.assertIs(is_right(folk, s(1, i), ("shown", [], [("k", n(2))][len(marks):])), False)
+
+    def test_marks_of_another_part(self):
+        folk = folk_of("ann part .\nann put ann.1 - y\nann put . - m\nann put ann.1 - x\nann mark ann.1 ann.4.0< ann.2.0> k on")
+        self.assertIs(is_right(folk, s(3), ("shown", [], [])), True)
+        self.assertIs(is_right(folk, s(3), ("shown", [], [("k", n(5))])), False)
+        self.assertIs(is_right(folk, s(4), ("shown", [n(1)], [("k", n(5))])), True)
 
     def test_marks_whose_ends_do_not_live(self):
         self.right(s(1, 1), [("a", n(4)), ("k", n(3))], "ann out . ann.1.0 ann.1.2")

@@ -329,6 +329,27 @@ class Begun(unittest.TestCase):
                 kept[key].clear()
         self.assertEqual(store.document(), shown)
 
+    def test_births_and_notes_are_its_own(self):
+        text = ("ann part .\nann part ann.1\nann leave . bob read yes\nann leave ann.1 bob read no\nann move ann.2 .\n"
+                "ann put . - a\nann note . ann.6.0< ann.6.0> why" + SETTLED + "ann pour 7,0\n")
+        kept = keepsake_of(Folk(ROLL, told(ROLL, text)), n(10))
+        store = Store(ROLL, kept)
+        shown = store.document("bob")
+        self.assertEqual([entry[2] is None for entry in shown], [False, True, True])
+        for key in ("births", "notes", "leaves", "parts", "roll"):
+            kept[key].clear()
+        self.assertEqual(store.document("bob"), shown)
+
+    def test_a_pour_of_lesser_counts(self):
+        """What a lesser pour rests on is poured: it isn't told as good, and gives no keepsake."""
+        store, deeds = self.begun()
+        heard_all(store, deeds)
+        lesser = ("ann", 8, store.counts(), None, ("pour", (1, 0)))
+        self.assertIs(store.would(lesser), False)
+        store.hear(lesser)
+        with self.assertRaises(NoThing):
+            store.keepsake_now(n(8))
+
     def test_held_against_a_store_that_heard_all(self):
         tried = 0
         for turn in range(60):
