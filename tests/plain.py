@@ -444,3 +444,32 @@ def shown(entries):
         if table[1]:
             rows.extend("cells " + " ".join(word or "-" for word in words) for words in table[2])
     return "\n".join(rows)
+
+
+# 26
+
+def is_so(reading, facts, sign, paper):
+    """Whether a paper of the told form is right for a sign, told as a fact of signs."""
+    counting = reading.counting(reading.all)
+    outs = [name for name in reading.of_kind(counting, "out") if sign[1] in reading.what(name)[2]]
+    if paper[0] == "unput":
+        return sign[1][:2] not in counting
+    if paper[0] == "out":
+        return paper[1] in outs
+    told, part, passed = places_told(facts), sign[0], []
+    for step in paper[1]:
+        if part not in told or told[part][2] != step or part in passed:
+            return False
+        turned = round_of(told, part)
+        is_turned = turned and max(turned, key=lambda one: told[one][3]) == part
+        if is_turned and (paper[0] != "shown" or len(passed) + 1 < len(paper[1])):
+            return False
+        passed.append(part)
+        part = MAIN if is_turned else told[part][1]
+    if paper[0] == "cut":
+        return paper[2] in counting and reading.what(paper[2]) == ("cut", part)
+    if paper[0] == "lost":
+        return part != MAIN and part not in counting
+    cut = [name for name in reading.of_kind(counting, "cut") if reading.what(name)[1] in passed]
+    lives = sign[1][:2] in counting and not outs
+    return part == MAIN and not cut and lives and paper[2] == telling_marks(facts, sign[0], sign[1])

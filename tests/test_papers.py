@@ -1,5 +1,6 @@
 """Papers and the looker: [2], [3] (c), [26], [27], [28]."""
 
+import itertools
 import random
 import unittest
 from unittest.mock import ANY
@@ -16,6 +17,10 @@ ROLL = ["ann", "bob"]
 MAIN = ("", 0)
 MOVES = ["part"] * 3 + ["move"] * 5 + ["put"] * 5 + ["cut", "mark", "mark", "back", "out"]
 LOSSES = ["part"] * 4 + ["put"] * 5 + ["back"] * 4 + ["move", "cut"]
+
+
+def chance_kinds(turn):
+    return (MOVES, LOSSES, ["part"] * 3 + ["move"] * 6 + ["put"] * 4)[turn % 3]
 
 
 def folk_of(text, roll=ROLL):
@@ -309,9 +314,10 @@ class Whole(unittest.TestCase):
             for sign in facts["signs"]:
                 is_shown = bool(sign[5] and plain.is_shown(facts, sign[0]))
                 for paper in papers + self.bent(chance, deeds, papers):
-                    if is_right(folk, sign[1], paper):
+                    answer = is_right(folk, sign[1], paper)
+                    self.assertIs(answer, bool(plain.is_so(reading, facts, sign, paper)), (sign, paper))
+                    if answer:
                         self.assertEqual(paper[0] == "shown", is_shown, (sign, paper))
-                        self.assertTrue(self.is_so(reading, facts, sign, paper), (sign, paper))
         self.assertTrue(all(kinds.get(kind, 0) > 5 for kind in ("shown", "unput", "out", "cut", "lost")), kinds)
 
     def bent(self, chance, deeds, papers):
@@ -327,29 +333,18 @@ class Whole(unittest.TestCase):
             some.append(("out", chance.choice(names)))
         return some + [("unput",)]
 
-    def is_so(self, reading, facts, sign, paper):
-        """[26], word by word."""
-        counting = reading.counting(reading.all)
-        if paper[0] == "unput":
-            return sign[1][:2] not in counting
-        if paper[0] == "out":
-            return paper[1] in counting and sign[1] in reading.what(paper[1])[2]
-        told_places, stands = plain.places_told(facts), plain.stands_in(facts)
-        part, passed = sign[0], []
-        for step in paper[1]:
-            turned = plain.round_of(told_places, part)
-            if told_places[part][2] != step or part in passed:
-                return False
-            is_turned = turned and max(turned, key=lambda one: told_places[one][3]) == part
-            if is_turned and (paper[0] != "shown" or len(passed) + 1 < len(paper[1])):
-                return False
-            passed.append(part)
-            part = MAIN if is_turned else told_places[part][1]
-        if paper[0] == "cut":
-            return paper[2] in counting and reading.what(paper[2]) == ("cut", part)
-        if paper[0] == "lost":
-            return part != MAIN and part not in counting
-        return part == MAIN and all(stands[one] is not None for one in passed)
+    def test_all_short_ways(self):
+        for turn in range(12):
+            deeds = some_deeds(random.Random(turn), ROLL, 14, chance_kinds(turn), branches=[None])
+            folk, reading = Folk(ROLL, deeds), plain.Plain(ROLL, deeds)
+            facts = facts_of(folk)
+            names = [deed[:2] for deed in deeds if deed[4][0] in ("part", "move", "cut")]
+            ways = [list(way) for many in range(4) for way in itertools.product(names, repeat=many)][:1500]
+            for sign in facts["signs"][:4]:
+                marks = plain.telling_marks(facts, sign[0], sign[1])
+                for way in ways:
+                    for paper in [("shown", way, marks), ("lost", way)] + [("cut", way, name) for name in names[-2:]]:
+                        self.assertIs(is_right(folk, sign[1], paper), bool(plain.is_so(reading, facts, sign, paper)), paper)
 
     def test_papers_of_order(self):
         for chance, roll, deeds in self.sets(40):
